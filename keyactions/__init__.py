@@ -1,0 +1,1 @@
+"""What a delete does through references, decided for all databases."""
