@@ -294,7 +294,8 @@ def with_actions(table, actions):
         for name, old in linked(table)
     }
     columns = [with_links(column, links[column.name]) for column in table.parts]
-    return Table(table.name, *columns, ids=links["id"])
+    ids = links["id"]
+    return Table(table.name, *columns, ids=ids)
 
 
 def actions_of(tables):
