@@ -5,7 +5,7 @@ from keyactions.errors import NothingToUndo, NotValid, Refused, Taken
 from keyactions.faults import faults_of
 from keyactions.forms import check_lines, is_integer, is_name, is_number, value_word, word_lines
 from keyactions.stores import Store
-from keyactions.sweeps import Sweep
+from keyactions.sweeps import Sweep, is_pending
 from keyactions.trials import Trial
 
 MOST_ROWS = 400
@@ -29,7 +29,7 @@ class Database:
 
     def insert(self, table, row, values):
         """Adds a row. Columns that are left out have their default, or None."""
-        rows = self._rows_of(table)
+        rows = rows_of(self, table)
         if not is_integer(row):
             raise BadValue("id")
         if row in rows:
@@ -50,11 +50,11 @@ class Database:
 
     def ids(self, table):
         """The ids of the rows of a table, ascending."""
-        return sorted(self._rows_of(table))
+        return sorted(rows_of(self, table))
 
     def record(self, table, row):
         """The values of a row by columns, without `id`."""
-        rows = self._rows_of(table)
+        rows = rows_of(self, table)
         check_row(table, rows, row)
         return dict(rows[row])
 
@@ -78,19 +78,11 @@ class Database:
 
     def copy(self):
         """An equal database, with nothing to undo."""
-        made = Database(self._schema)
-        made.store = self.store.fork()
-        return made
+        return holding(self._schema, self.store.data)
 
     def delete(self, table, ids, *, choose=None):
         """Carries out a delete; gives the events in the order in which they were fired."""
-        rows = self._rows_of(table)
-        for row in ids:
-            check_row(table, rows, row)
-        faults = self.faults()
-        if faults:
-            raise NotValid(faults[0])
-        sweep = Sweep(self._schema, self.store.data, table, ids)
+        sweep = begun(self, table, ids)
         fired = []
         while sweep.pending:
             event = chosen(sweep.pending, choose)
@@ -112,11 +104,6 @@ class Database:
         with self.trial() as same:
             return function(same)
 
-    def _rows_of(self, table):
-        if table not in self._schema:
-            raise NoTable(table)
-        return self.store.data[table]
-
     def __eq__(self, other):
         return (isinstance(other, Database) and self._schema == other._schema
                 and self.store.data == other.store.data)
@@ -134,6 +121,33 @@ class Database:
 
     def __repr__(self):
         return f"Database({len(self.rows())} rows)"
+
+
+def holding(schema, data):
+    """A database with the rows of some data, as stores have it, and nothing to undo."""
+    made = Database(schema)
+    made.store = Store(data).fork()
+    return made
+
+
+def begun(base, table, ids):
+    """A delete of a database before its first event."""
+    rows = rows_of(base, table)
+    for row in ids:
+        check_row(table, rows, row)
+    faults = base.faults()
+    if faults:
+        raise NotValid(faults[0])
+    sweep = Sweep(base.schema, base.store.data)
+    sweep.go(table, sorted(set(ids)))
+    return sweep
+
+
+def rows_of(base, table):
+    """The values of the rows of a table by ids; `table` is any value."""
+    if table not in base.schema:
+        raise NoTable(table)
+    return base.store.data[table]
 
 
 def read_database(schema, text):
@@ -203,11 +217,6 @@ def chosen(pending, choose):
     if choose is None:
         return pending[0]
     choice = choose(list(pending))
-    if not is_event(choice) or choice not in pending:
+    if not is_pending(pending, choice):
         raise BadChoice(choice)
     return choice
-
-
-def is_event(value):
-    """Whether any value can be an event: True is no id, although it equals 1."""
-    return isinstance(value, tuple) and len(value) == 4 and is_integer(value[3])
