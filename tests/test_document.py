@@ -2,6 +2,12 @@
 
 import unittest
 
+from keyactions.conflicts import conflicts
+from keyactions.databases import Database, read_database
+from keyactions.runs import ends, replay
+from keyactions.schemas import Column, Schema, Table
+from keyactions.worlds import open_tables
+
 SCHEMAS = '''
 >>> from keyactions.schemas import Column, Schema, Table, read_schema
 >>> cart = Table("cart", Column("owner", ("user", "cascade")), Column("payer", ("user", "restrict"), nullable=True))
@@ -23,6 +29,28 @@ DATABASES = '''
 [None, True, {'owner': 1, 'payer': 2}, [('cart', 'owner', 'user', 1), ('cart', 'payer', 'user', 1)]]
 >>> base.delete("user", [2])
 raises Refused(cause=('cart', 'payer', 'user', 2))
+'''
+
+RUNS = '''
+>>> from keyactions.runs import ends
+>>> ends(base, "user", [1, 2])
+[None, Database(0 rows)]
+'''
+
+CONFLICTS = '''
+>>> from keyactions.conflicts import conflicts
+>>> from keyactions.worlds import can_go, open_tables
+>>> [open_tables(shop, "user"), open_tables(shop, "cart"), can_go(shop, "cart", ["user", "cart"])]
+[['user', 'cart'], ['cart'], ['cart']]
+>>> conflicts(shop)
+[('user', 'row', ('cart', 'owner', 'user'), ('cart', 'payer', 'user'))]
+'''
+
+WITNESSES = '''
+>>> from keyactions.witnesses import parts, witness
+>>> run = base.copy().delete("user", [1, 2])
+>>> [parts(shop, witness(shop)), parts(shop, (base, "user", [1, 2], [("cart", "payer", "user", 2)], run))]
+[True, True]
 '''
 
 
@@ -63,6 +91,38 @@ class Examples(unittest.TestCase):
         names = {}
         self.check(SCHEMAS, names)
         self.check(DATABASES, names)
+
+    def test_runs(self):
+        names = {}
+        self.check(SCHEMAS, names)
+        self.check(DATABASES, names)
+        self.check(RUNS, names)
+
+    def test_worlds_and_conflicts(self):
+        names = {}
+        self.check(SCHEMAS, names)
+        self.check(CONFLICTS, names)
+
+    def test_witnesses(self):
+        names = {}
+        self.check(SCHEMAS, names)
+        self.check(DATABASES, names)
+        self.check(RUNS, names)
+        self.check(CONFLICTS, names)
+        self.check(WITNESSES, names)
+
+    def test_a_row_that_goes_earlier(self):
+        # Point 11: "the start is `a`; `b.id` references `a` with `no_action`; `t.x` references `a` with `cascade` and `b`
+        # with `no_action`; `b.z` references `t` with `cascade`. If row 1 of `a` is deleted, row 5 of `t` with x = 1 goes,
+        # then row 1 of `b` with z = 5, and the delete is done. All three tables are open."
+        schema = Schema(Table("a"), Table("b", Column("z", ("t", "cascade")), ids=(("a", "no_action"),)),
+                        Table("t", Column("x", ("a", "cascade"), ("b", "no_action"))))
+        self.assertEqual(["a", "b", "t"], open_tables(schema, "a"))
+        base = read_database(schema, "row a 1\nrow b 1 z=5\nrow t 5 x=1")
+        events = [("t", "x", "a", 1), ("b", "z", "t", 5), ("b", "id", "a", 1), ("t", "x", "b", 1)]
+        self.assertEqual("", str(replay(base, "a", [1], events)))
+        self.assertEqual([Database(schema)], ends(base, "a", [1]))
+        self.assertEqual([], conflicts(schema))
 
     def test_the_implied_references_of_the_shop(self):
         names = {}

@@ -41,6 +41,13 @@ def docstrings(tree):
     return found
 
 
+def is_plain(node):
+    """A name, an attribute off a name, a literal, or a list or tuple of these."""
+    if isinstance(node, (ast.List, ast.Tuple)):
+        return all(is_plain(part) for part in node.elts)
+    return isinstance(node, (ast.Name, ast.Constant)) or isinstance(node, ast.Attribute) and isinstance(node.value, ast.Name)
+
+
 class Files(unittest.TestCase):
     def test_the_folder_holds_plain_files_alone(self):
         found = [path for path in FOLDER.rglob("*") if "__pycache__" not in path.parts]
@@ -183,6 +190,15 @@ class Code(unittest.TestCase):
         for name, node in nodes(ast.SetComp, ast.Call):
             if isinstance(node, ast.SetComp) or isinstance(node.func, ast.Name) and node.func.id == "set":
                 self.assertIn(ast.unparse(node), inner, (name, node.lineno))
+
+    def test_calls_with_stars(self):
+        for name, node in nodes(ast.Call):
+            stars = [at for at, part in enumerate(node.args) if isinstance(part, ast.Starred)]
+            self.assertNotIn(None, [part.arg for part in node.keywords], (name, node.lineno))
+            if stars:
+                values = [part.value if isinstance(part, ast.Starred) else part for part in node.args[stars[0]:]]
+                for value in values + [part.value for part in node.keywords]:
+                    self.assertTrue(is_plain(value), (name, node.lineno, ast.unparse(value)))
 
     def test_any_all_and_sum_take_lists(self):
         for name, node in nodes(ast.Call):
