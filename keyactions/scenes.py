@@ -2,8 +2,8 @@
 
 from keyactions.worlds import can_go, causes, open_tables, targets_at
 
-# One id for what stays, one for each open table, one for the row of the meeting, two for its values.
-MOST_IDS = 9
+# One for what stays, one for each of the open tables but the start, one for the row of the meeting, two for its values.
+MOST_IDS = 8
 
 
 class Scene:

@@ -447,22 +447,26 @@ def valid_database(schema, chance):
             rows.pop((fault[0], fault[1]), None)
 
 
+def random_delete(chance):
+    """Some valid database with 3 rows or more, a table, ids of its rows, and the defaults of all columns."""
+    while True:
+        tables = random_tables(chance)
+        base = valid_database(Schema(*tables), chance)
+        if base.is_valid() and len(base) >= 3:
+            table = chance.choice([name for name in base.schema.tables() if base.ids(name)])
+            ids = chance.sample(base.ids(table), chance.randint(1, len(base.ids(table))))
+            return base, table, ids, {(part.name, column.name): column.default for part in tables for column in part.parts}
+
+
 class AgainstTheModel(Case):
     def test_random_deletes(self):
         chance = random.Random(7)
         done = refused = faulty = 0
         while done < 300 or refused < 100 or faulty < 100:
-            tables = random_tables(chance)
-            schema = Schema(*tables)
-            defaults = {(table.name, column.name): column.default for table in tables for column in table.parts}
-            base = valid_database(schema, chance)
-            if not base.is_valid() or len(base) < 3:
-                continue
-            table = chance.choice([name for name in schema.tables() if base.ids(name)])
-            ids = chance.sample(base.ids(table), chance.randint(1, len(base.ids(table))))
+            base, table, ids, defaults = random_delete(chance)
             seed = chance.random()
             model, fired, cause = run(base, table, ids, random.Random(seed), defaults)
-            before, picks, left = base.copy(), random.Random(seed), Database(schema)
+            before, picks, left = base.copy(), random.Random(seed), Database(base.schema)
             for entry in model.entries():
                 left.insert(*entry)
             if cause is None and left.faults():

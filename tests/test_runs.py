@@ -6,10 +6,9 @@ import random
 from keyactions.databases import Database, read_database
 from keyactions.errors import BadRun, NoRow, NothingToUndo, NotValid, NoTable, Refused
 from keyactions.runs import ends, events_of, replay
-from keyactions.schemas import Schema, read_schema
+from keyactions.schemas import read_schema
 from samples import Case, odd_numbers, odd_values, shop, stocked
-from test_deletes import Model, one_action, run, two_ways, valid_database
-from test_schemas import random_tables
+from test_deletes import Model, one_action, random_delete, run, two_ways
 
 OWNER, PAYER = ("cart", "owner", "user", 1), ("cart", "payer", "user", 1)
 FAULTY = "row user 1\nrow cart 7 owner=5\nrow cart 6 owner=1 payer=3"
@@ -194,16 +193,9 @@ class Replay(Case):
         chance = random.Random(8)
         done = refused = 0
         while done < 150 or refused < 100:
-            tables = random_tables(chance)
-            schema = Schema(*tables)
-            defaults = {(table.name, column.name): column.default for table in tables for column in table.parts}
-            base = valid_database(schema, chance)
-            if not base.is_valid() or len(base) < 3:
-                continue
-            table = chance.choice([name for name in schema.tables() if base.ids(name)])
-            ids = chance.sample(base.ids(table), chance.randint(1, len(base.ids(table))))
+            base, table, ids, defaults = random_delete(chance)
             model, fired, cause = run(base, table, ids, chance, defaults)
-            left = Database(schema)
+            left = Database(base.schema)
             for entry in model.entries():
                 left.insert(*entry)
             before = base.copy()
@@ -336,14 +328,7 @@ class Ends(Case):
         chance = random.Random(9)
         counts = {}
         while sum(counts.values()) < 200 or len(counts) < 3:
-            tables = random_tables(chance)
-            schema = Schema(*tables)
-            defaults = {(table.name, column.name): column.default for table in tables for column in table.parts}
-            base = valid_database(schema, chance)
-            if not base.is_valid() or len(base) < 3:
-                continue
-            table = chance.choice([name for name in schema.tables() if base.ids(name)])
-            ids = chance.sample(base.ids(table), chance.randint(1, len(base.ids(table))))
+            base, table, ids, defaults = random_delete(chance)
             if len(run(base, table, ids, chance, defaults)[1]) > 6:
                 continue
             expected = plain_ends(base, table, ids, defaults, 150)
