@@ -1,6 +1,6 @@
 """Conflicts: two references that meet in one row, so that the order of their events matters."""
 
-from keyactions.errors import NoTable
+from keyactions.errors import NotFree, NoTable
 from keyactions.schemas import traits
 from keyactions.worlds import going, opened, spread, targets_at
 
@@ -16,6 +16,13 @@ def conflicts(schema, *, start=None):
 def is_order_free(schema):
     """Whether all runs of each delete of each valid database have equal ends."""
     return conflicts(schema) == []
+
+
+def check_free(schema):
+    """Raises for the first conflict of a schema."""
+    found = conflicts(schema)
+    if found:
+        raise NotFree(found[0])
 
 
 def conflicts_with(schema, start, grounds):

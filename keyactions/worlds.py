@@ -28,12 +28,17 @@ def check_tables(schema, tables):
 
 def opened(schema, start):
     """The open tables for a start."""
-    grounds = schema.tables()
+    return shrunk(schema, start)[-1]
+
+
+def shrunk(schema, start):
+    """All tables, then L(O) with what stands before as O, until it stays the same."""
+    stages = [schema.tables()]
     while True:
-        fewer = begin_to_go(schema, start, grounds)
-        if fewer == grounds:
-            return grounds
-        grounds = fewer
+        fewer = begin_to_go(schema, start, stages[-1])
+        if fewer == stages[-1]:
+            return stages
+        stages.append(fewer)
 
 
 def begin_to_go(schema, start, grounds):

@@ -2,6 +2,7 @@
 
 import unittest
 
+from keyactions.console import Console
 from keyactions.databases import Database, read_database
 from keyactions.schemas import Column, Schema, Table, read_schema
 
@@ -69,7 +70,7 @@ def odd_values():
         [[]], ([],), ({},), ("user", []), ("cart", "payer", []), ("cart", "payer", "user", []),
         ["cart", "payer", "user"], ["cart", "payer", "user", 1], deep(12), [deep(11)] * 50,
         Column("x"), Table("user"), schema, base, [base, schema], (schema,), {"a": base},
-        base.rows(), schema.references(), Schema.ACTIONS,
+        base.rows(), schema.references(), Schema.ACTIONS, Console(schema), base.trial(), [Console(schema)], (base.trial(), 1),
     ]
 
 

@@ -53,6 +53,43 @@ WITNESSES = '''
 [True, True]
 '''
 
+CERTIFICATES = '''
+>>> from keyactions.certificates import certificate, certifies
+>>> from keyactions.witnesses import parts, witness
+>>> run = base.copy().delete("user", [1, 2])
+>>> [parts(shop, witness(shop)), parts(shop, (base, "user", [1, 2], [("cart", "payer", "user", 2)], run))]
+[True, True]
+>>> free = shop.changed(("cart", "payer", "user"), "set_null")
+>>> stages = {"user": [["user", "cart"]], "cart": [["user", "cart"], ["cart"]]}
+>>> [certifies(free, certificate(free)), certifies(free, stages)]
+[True, True]
+'''
+
+CHANGES = '''
+>>> from keyactions.changes import allowed, fewest_changes
+>>> [fewest_changes(shop), allowed(shop, ("cart", "payer", "user"))]
+[[('cart', 'owner', 'user')], ['cascade', 'set_null', 'set_default', 'no_action']]
+'''
+
+REASONS = '''
+>>> from keyactions.databases import read_database
+>>> from keyactions.reasons import end_of, reasons
+>>> other = read_database(free, str(base))
+>>> str(end_of(other, "user", [2])).split("\\n")
+['row user 1', 'row cart 7 owner=1 payer=null']
+>>> reasons(other, "user", [2]) == {("user", 2): ("deleted",), ("cart", 7, "payer"): ("user", 2)}
+True
+'''
+
+CONSOLE = '''
+>>> from keyactions.console import Console
+>>> console = Console(free)
+>>> [console.say("insert user 1"), console.say("insert cart 7 owner=1 payer=1"), console.say("faults"), console.say("conflicts")]
+['ok', 'ok', '-', '0']
+>>> [console.say("delete user 1"), console.say("undo"), console.say("show")]
+['2', 'ok', 'row user 1; row cart 7 owner=1 payer=1']
+'''
+
 
 def shown(names, line):
     """What the document shows below a line: the result, or the error with its fields."""
@@ -110,6 +147,28 @@ class Examples(unittest.TestCase):
         self.check(RUNS, names)
         self.check(CONFLICTS, names)
         self.check(WITNESSES, names)
+
+    def test_all_in_one_session(self):
+        names = {}
+        for text in (SCHEMAS, DATABASES, RUNS, CONFLICTS, CERTIFICATES, CHANGES, REASONS, CONSOLE):
+            self.check(text, names)
+
+    def test_certificates(self):
+        names = {}
+        for text in (SCHEMAS, DATABASES, CERTIFICATES):
+            self.check(text, names)
+        self.assertEqual({"user", "cart"}, set(names["certificate"](names["free"])))
+
+    def test_changes(self):
+        names = {}
+        for text in (SCHEMAS, CHANGES):
+            self.check(text, names)
+
+    def test_reasons_and_the_console(self):
+        names = {}
+        for text in (SCHEMAS, DATABASES, CERTIFICATES, REASONS):
+            self.check(text, names)
+        self.check(CONSOLE, {"free": names["free"]})
 
     def test_a_row_that_goes_earlier(self):
         # Point 11: "the start is `a`; `b.id` references `a` with `no_action`; `t.x` references `a` with `cascade` and `b`

@@ -33,6 +33,11 @@ def nodes(*kinds):
     return [(name, node) for name, tree in trees() for node in ast.walk(tree) if isinstance(node, kinds)]
 
 
+def heads_over_ranges():
+    return [node for _, node in nodes(ast.For)
+            if isinstance(node.iter, ast.Call) and isinstance(node.iter.func, ast.Name) and node.iter.func.id == "range"]
+
+
 def docstrings(tree):
     found = []
     for node in ast.walk(tree):
@@ -87,12 +92,21 @@ class Code(unittest.TestCase):
                 elif isinstance(node, ast.Assign):
                     self.assertEqual(1, len(node.targets))
                     bound.append(node.targets[0].id)
-                    ast.literal_eval(node.value)
+                    self.check_value(node.value, bound)
                 elif isinstance(node, ast.Expr):
                     self.assertIs(tree.body[0], node)
                 else:
                     bound.append(node.name)
             self.assertEqual(len(set(bound)), len(bound), name)
+
+    def check_value(self, node, bound):
+        """A value at module level is plain; a dict there may have functions that are defined above it."""
+        if isinstance(node, ast.Dict):
+            for part in [*node.keys, *node.values]:
+                if not (isinstance(part, ast.Name) and part.id in bound):
+                    ast.literal_eval(part)
+        else:
+            ast.literal_eval(node)
 
     def test_imports_name_the_file_that_defines(self):
         homes = {name: {node.name for node in tree.body if isinstance(node, (ast.FunctionDef, ast.ClassDef))}
@@ -101,6 +115,9 @@ class Code(unittest.TestCase):
         for name, node in nodes(ast.Import, ast.ImportFrom):
             self.assertIsInstance(node, ast.ImportFrom, name)
             self.assertEqual(0, node.level)
+            if node.module == "itertools":
+                self.assertEqual(["combinations"], [part.name for part in node.names])
+                continue
             self.assertRegex(node.module, "^keyactions[.][a-z]+$")
             home = node.module.split(".")[1] + ".py"
             edges.setdefault(name, set()).add(home)
@@ -199,6 +216,15 @@ class Code(unittest.TestCase):
                 values = [part.value if isinstance(part, ast.Starred) else part for part in node.args[stars[0]:]]
                 for value in values + [part.value for part in node.keywords]:
                     self.assertTrue(is_plain(value), (name, node.lineno, ast.unparse(value)))
+
+    def test_combinations_stand_in_loops_over_a_list_and_a_number_of_a_range(self):
+        heads = [node.iter for _, node in nodes(ast.For)]
+        numbers = [node.target.id for node in heads_over_ranges()]
+        for name, node in nodes(ast.Call):
+            if isinstance(node.func, ast.Name) and node.func.id == "combinations":
+                self.assertIn(ast.dump(node), [ast.dump(head) for head in heads], name)
+                self.assertEqual([ast.Name, ast.Name], [part.__class__ for part in node.args])
+                self.assertIn(node.args[1].id, numbers)
 
     def test_any_all_and_sum_take_lists(self):
         for name, node in nodes(ast.Call):

@@ -2,9 +2,13 @@
 
 import copy
 
+from keyactions.certificates import certificate, certifies
+from keyactions.changes import allowed, fewest_changes
 from keyactions.conflicts import conflicts, is_order_free
+from keyactions.console import Console
 from keyactions.databases import Database, read_database
-from keyactions.errors import BadRun, NothingToUndo, NoTable
+from keyactions.errors import BadRun, NotFree, NothingToUndo, NoTable, Refused
+from keyactions.reasons import end_of, explains, reasons
 from keyactions.runs import ends, events_of, replay
 from keyactions.schemas import Column, Schema, Table, read_schema
 from keyactions.witnesses import parts, witness
@@ -93,6 +97,28 @@ def of_modules(schema, base):
     }
 
 
+def free():
+    """The order-free schema of the document's examples."""
+    return shop().changed(("cart", "payer", "user"), "set_null")
+
+
+def of_order_free(schema, base):
+    """Calls of what asks for an order-free schema, and of `changes`."""
+    return {
+        "certificate": lambda: certificate(schema=schema),
+        "certifies": lambda: certifies(schema=schema, value=certificate(schema)),
+        "fewest_changes": lambda: fewest_changes(schema=schema),
+        "fewest_changes of the shop": lambda: fewest_changes(schema=shop()),
+        "allowed": lambda: allowed(schema=schema, reference=("cart", "payer", "user")),
+        "end_of": lambda: end_of(database=base, table="user", ids=[2]),
+        "end_of nothing": lambda: end_of(database=base, table="user", ids=[]),
+        "reasons": lambda: reasons(database=base, table="user", ids=[2]),
+        "reasons of nothing": lambda: reasons(database=base, table="user", ids=[]),
+        "explains": lambda: explains(database=base, table="user", ids=[2], value=reasons(base, "user", [2])),
+        "console": lambda: [Console(schema=schema).say(line=line) for line in ("insert user 1", "show")],
+    }
+
+
 class Returned(Case):
     def check(self, calls, state):
         before = state()
@@ -125,6 +151,12 @@ class Returned(Case):
         self.check(of_modules(schema, base), lambda: (str(schema), str(base)))
         self.assertEqual((shop(), stocked()), (schema, base))
 
+    def test_of_an_order_free_schema(self):
+        schema = free()
+        base = read_database(schema, str(stocked()))
+        self.check(of_order_free(schema, base), lambda: (str(schema), str(base)))
+        self.assertEqual((free(), read_database(free(), str(stocked()))), (schema, base))
+
     def test_rows_of_walk(self):
         base = stocked()
         for _, _, values in base.walk():
@@ -143,6 +175,11 @@ class Returned(Case):
         base.undo()
         base.undo()
         self.assertEqual(stocked(), base)
+        base = read_database(free(), str(stocked()))
+        base.insert("user", 5, {})
+        for made in (end_of(base, "user", []), end_of(base, "user", [2])):
+            self.assertEqual(free(), made.schema)
+            self.fails(NothingToUndo, {}, made.undo)
 
     def test_the_schema_of_a_database_that_is_returned(self):
         base = stocked()
@@ -166,6 +203,29 @@ class Passed(Case):
         base.delete("user", ids)
         parts(schema, (stocked(), "user", ids, events, [PAYER]))
         self.assertEqual(before, passed)
+
+    def test_lists_and_dicts_for_an_order_free_schema(self):
+        base, schema = read_database(free(), str(stocked())), free()
+        ids, stages, told = [2, 1, 2], certificate(schema), reasons(base, "user", [1, 2])
+        before = copy.deepcopy([ids, stages, told])
+        end = end_of(base, "user", ids)
+        self.assertTrue(explains(base, "user", ids, told))
+        self.assertTrue(certifies(schema, stages))
+        made = reasons(base, "user", ids)
+        self.assertEqual(before, [ids, stages, told])
+        for value in (ids, stages, told):
+            value.clear()
+        self.assertEqual(Database(free()), end)
+        self.assertEqual(before[2], made)
+        self.assertTrue(certifies(schema, before[1]))
+
+    def test_a_console_has_a_schema_of_its_own(self):
+        column = Column("owner", ("user", "cascade"))
+        table = Table("cart", column)
+        schema = Schema(Table("user"), table)
+        console = Console(schema)
+        column.links, table.parts = (), ()
+        self.assertEqual(["ok", "cart 1 owner user"], [console.say("insert cart 1 owner=1"), console.say("faults")])
 
     def test_they_may_be_changed_later(self):
         base, values, ids, events = stocked(), {"owner": 1, "payer": None}, [1], [OWNER, PAYER]
@@ -212,12 +272,22 @@ class Passed(Case):
         self.assertEqual(([1], [OWNER], ["user", "x"]), (ids, events, tables))
         self.assertEqual((shop(), stocked()), (schema, base))
         self.fails(NothingToUndo, {}, base.copy().undo)
+        for call in (end_of, reasons, lambda *passed: explains(*passed, {})):
+            self.fails(NotFree, {"conflict": conflicts(schema)[0]}, call, base, "user", ids)
+        self.fails(NotFree, {"conflict": conflicts(schema)[0]}, certificate, schema)
+        refusing = read_database(shop().changed(("cart", "owner", "user"), "no_action"), str(base))
+        self.fails(Refused, {"cause": None}, reasons, refusing, "user", ids)
+        self.assertEqual((shop(), stocked(), [1]), (schema, base, ids))
+        self.assertEqual(str(base), str(refusing))
+        self.fails(NothingToUndo, {}, refusing.undo)
 
 
 class Defined(Case):
     def test_functions_stand_in_their_files(self):
         homes = {"runs": [events_of, replay, ends], "worlds": [open_tables, can_go],
-                 "conflicts": [conflicts, is_order_free], "witnesses": [witness, parts]}
+                 "conflicts": [conflicts, is_order_free], "witnesses": [witness, parts],
+                 "certificates": [certificate, certifies], "changes": [fewest_changes, allowed],
+                 "reasons": [end_of, reasons, explains], "console": [Console]}
         for name, functions in homes.items():
             for function in functions:
                 self.assertEqual("keyactions." + name, function.__module__)
@@ -225,7 +295,10 @@ class Defined(Case):
     def test_names_of_the_arguments(self):
         told = {events_of: "schema table row", replay: "database table ids events", ends: "database table ids",
                 open_tables: "schema start", can_go: "schema start tables", conflicts: "schema", is_order_free: "schema",
-                witness: "schema", parts: "schema value"}
+                witness: "schema", parts: "schema value", certificate: "schema", certifies: "schema value",
+                fewest_changes: "schema", allowed: "schema reference", end_of: "database table ids",
+                reasons: "database table ids", explains: "database table ids value", Console.__init__: "self schema",
+                Console.say: "self line"}
         for function, names in told.items():
             self.assertEqual(tuple(names.split()), function.__code__.co_varnames[:function.__code__.co_argcount])
             self.assertIsNone(function.__defaults__)
